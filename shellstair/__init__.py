@@ -1,0 +1,1 @@
+"""Shellstair: shells carried on a stair until they lie still."""
