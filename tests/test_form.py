@@ -13,6 +13,12 @@ CALLED_OF_PYTHON = set(
     "len range enumerate zip min max sum abs sorted reversed int str bool list tuple dict set frozenset isinstance"
     " ord repr any all divmod".split()
 )
+METHODS_OF_PYTHON = set(
+    "append clear copy count endswith extend find get index insert isalnum isalpha isdigit islower isspace isupper"
+    " items join keys ljust lower lstrip partition pop remove replace reverse rfind rjust rpartition rsplit rstrip"
+    " setdefault split splitlines startswith strip update upper values zfill bit_length".split()
+)
+OWN_ATTRIBUTES = {"feed", "left", "kept"}
 BASES_OF_PYTHON = {"ValueError", "Exception"}
 STATEMENTS = (
     ast.Assign, ast.AugAssign, ast.If, ast.While, ast.For, ast.Return, ast.Break, ast.Continue, ast.Pass, ast.Raise,
@@ -35,7 +41,7 @@ def nodes(kind):
 class Form(unittest.TestCase):
     def test_files(self):
         names = [path.name for path in package_files()]
-        for name in ("__init__.py", "errors.py", "stair.py"):
+        for name in ("__init__.py", "errors.py", "moves.py", "rows.py", "stair.py", "texts.py"):
             self.assertIn(name, names)
         for name in names:
             self.assertRegex(name, r"^[a-z0-9_]+\.py$")
@@ -79,9 +85,43 @@ class Form(unittest.TestCase):
         for path, node in nodes(ast.Constant):
             self.assertNotIsInstance(node.value, (float, complex, bytes), (path, node.lineno))
 
+    def test_texts_and_powers(self):
+        for path, node in nodes(ast.Constant):
+            if isinstance(node.value, str):
+                self.assertNotIn("%", node.value, (path, node.lineno))
+        for path, node in nodes(ast.BinOp):
+            if isinstance(node.op, ast.Pow):
+                self.assertIsInstance(node.right, ast.Constant, (path, node.lineno))
+                self.assertIn(node.right.value, range(65), (path, node.lineno))
+
+    def test_a_call_alone_stands_by_itself(self):
+        docstrings = [tree.body[0] for path, tree in trees()]
+        for path, node in nodes(ast.Expr):
+            if ast.dump(node) not in [ast.dump(docstring) for docstring in docstrings]:
+                self.assertIsInstance(node.value, ast.Call, (path, node.lineno))
+
+    def test_parameters(self):
+        for path, node in nodes(ast.arguments):
+            self.assertEqual((node.vararg, node.kwarg, node.kwonlyargs, node.posonlyargs), (None, None, [], []), path)
+            for default in node.defaults:
+                self.assertIsInstance(default, ast.Constant, path)
+        for path, node in nodes((ast.FunctionDef, ast.ClassDef)):
+            self.assertEqual(node.decorator_list, [], (path, node.name))
+
+    def test_attributes(self):
+        for path, node in nodes(ast.Attribute):
+            self.assertIn(node.attr, METHODS_OF_PYTHON | OWN_ATTRIBUTES, (path, node.lineno))
+
+    def test_is_stands_beside_none_and_truths_alone(self):
+        for path, node in nodes(ast.Compare):
+            for sign, right in zip(node.ops, node.comparators):
+                if isinstance(sign, (ast.Is, ast.IsNot)):
+                    self.assertIn(getattr(right, "value", 0), (None, True, False), (path, node.lineno))
+
     def test_names_are_plain_and_known(self):
         for path, tree in trees():
-            bound = {node.id for node in ast.walk(tree) if isinstance(node, ast.Name) and isinstance(node.ctx, ast.Store)}
+            names = [node for node in ast.walk(tree) if isinstance(node, ast.Name)]
+            bound = {node.id for node in names if isinstance(node.ctx, ast.Store)}
             bound |= {node.arg for node in ast.walk(tree) if isinstance(node, ast.arg)}
             bound |= {node.name for node in ast.walk(tree) if isinstance(node, (ast.FunctionDef, ast.ClassDef))}
             for node in ast.walk(tree):
@@ -89,7 +129,7 @@ class Form(unittest.TestCase):
                     bound |= {name.name for name in node.names}
             for name in bound - {"__init__"}:
                 self.assertRegex(name, r"^[A-Za-z][A-Za-z0-9_]*$", path)
-            used = {node.id for node in ast.walk(tree) if isinstance(node, ast.Name)}
+            used = {node.id for node in names}
             self.assertEqual(used - bound - CALLED_OF_PYTHON - BASES_OF_PYTHON, set(), path)
 
 
